@@ -1,0 +1,1 @@
+"""Featureunion: one build of a library for all who use it."""
