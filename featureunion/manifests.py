@@ -14,6 +14,11 @@ def are_ascending_names(thing):
     return all([thing[at] < thing[at + 1] for at in range(len(thing) - 1)])
 
 
+def is_tuple_of(size, thing):
+    """Return, of anything as thing, whether it is a tuple with so many members."""
+    return isinstance(thing, tuple) and len(thing) == size
+
+
 def features_in(manifest):
     """Return the ascending tuple of the features of a manifest."""
     return tuple([pair[0] for pair in manifest])
@@ -30,7 +35,7 @@ def is_manifest(thing):
     """Return, of anything, whether it is a manifest."""
     if not isinstance(thing, tuple) or len(thing) > MOST_FEATURES:
         return False
-    if not all([isinstance(pair, tuple) and len(pair) == 2 for pair in thing]):
+    if not all([is_tuple_of(2, pair) for pair in thing]):
         return False
     features = features_in(thing)
     if not are_ascending_names(features):
@@ -66,12 +71,17 @@ def closure(manifest, request):
     return closed_over(manifest, request)
 
 
+def subsets_of(names):
+    """Return the list of all ascending tuples of names among ascending ones, by their length, then ascending."""
+    found = [()]
+    for name in names:
+        found = found + [subset + (name,) for subset in found]
+    return sorted(found, key=lambda subset: (len(subset), subset))
+
+
 def all_requests(manifest):
     """Return the list of all requests, by their number of features, then ascending."""
-    found = [()]
-    for feature in features_in(manifest):
-        found = found + [request + (feature,) for request in found]
-    return sorted(found, key=lambda request: (len(request), request))
+    return subsets_of(features_in(manifest))
 
 
 def closed_requests(manifest):

@@ -8,6 +8,47 @@ class Plain:
     """A class of the tests' own, whose objects are of no kind that the program knows."""
 
 
+class Agreeing:
+    """Its objects say of every object that they are equal to it, and of every name that they contain it."""
+
+    def __eq__(self, other):
+        return True
+
+    def __ne__(self, other):
+        return False
+
+    def __lt__(self, other):
+        return True
+
+    def __hash__(self):
+        return hash("a")
+
+    def __contains__(self, other):
+        return True
+
+    def __len__(self):
+        return 2
+
+    def __getitem__(self, at):
+        return "a"
+
+
+class Refusing:
+    """Its objects cannot be compared, tested, counted, iterated over or put into a set."""
+
+    __hash__ = None
+
+    def __eq__(self, other):
+        raise RuntimeError("not comparable")
+
+    __ne__ = __lt__ = __le__ = __gt__ = __ge__ = __contains__ = __getitem__ = __eq__
+
+    def __bool__(self):
+        raise RuntimeError("neither true nor false")
+
+    __len__ = __iter__ = __bool__
+
+
 def wrapped(thing, depth, wrap):
     for _ in range(depth):
         thing = wrap(thing)
@@ -53,7 +94,22 @@ def other_things():
     kinds = [object(), Plain(), Plain, str, tuple, len, other_things, lambda: "a", ValueError("a")]
     iterators = [iter(("a",)), iter([]), (letter for letter in "ab"), {"a": 1}.keys(), memoryview(b"a")]
     packed = [(object(),), ("a", Plain()), (Plain(), "a"), (iter("a"),), (len, str)]
-    return builtin_things() + kinds + iterators + packed
+    comparing = [Agreeing(), Refusing()]
+    comparing += [pair for thing in comparing for pair in ((thing,), ("a", thing), (thing, "a"), (thing, thing))]
+    return builtin_things() + kinds + iterators + packed + comparing
+
+
+def no_requests():
+    """Things that are no requests of a manifest with the features a, b and c, of any kind."""
+    return other_things() + deep_things(30) + [
+        "a", "ab", "abc", ["a"], ["a", "b"], [], {"a": 1}, {"a"}, b"a",
+        ("b", "a"), ("a", "c", "b"), ("c", "b", "a"), ("b", "c", "a"),
+        ("a", "a"), ("a", "b", "b"), ("a", "a", "b"), ("a", "b", "a"),
+        ("d",), ("a", "d"), ("a", "b", "c", "d"), ("aa",), ("A",), ("a", "aa", "b"), ("",), ("a ",), ("a\n",),
+        ("ab",), ("a,b",), (("a",),), ("a", ("b",)), (["a"],), ("a", ["b"]), ("a", {"b": 1}), ("a", {"b"}),
+        ("a", None), (None, "a"), (1,), ("a", 1), (0, "a"), (True,), ("a", True), (b"a",), ("a", b"b"),
+        (("a", ()),), (("a", ()), ("b", ()), ("c", ())), ((),), ("a", ()),
+    ]
 
 
 def all_subsets(names):
@@ -114,3 +170,202 @@ def ring(names):
 
 def without_implied(names):
     return tuple((name, ()) for name in names)
+
+
+def replaced_at(whole, at, part):
+    return whole[:at] + (part,) + whole[at + 1:]
+
+
+def with_one_list(thing):
+    """All things that have a list in the place of one of the tuples of a thing, at any depth."""
+    if not isinstance(thing, tuple):
+        return []
+    found = [list(thing)]
+    for at, part in enumerate(thing):
+        found += [replaced_at(thing, at, changed) for changed in with_one_list(part)]
+    return found
+
+
+def with_one_other(thing, other):
+    """All things that have another object in the place of one of the parts of a thing, at any depth, or of all."""
+    found = [other]
+    if isinstance(thing, tuple):
+        for at, part in enumerate(thing):
+            found += [replaced_at(thing, at, changed) for changed in with_one_other(part, other)]
+    return found
+
+
+def random_formula(source, names, depth):
+    """A formula at most so deep over the names, of which there may be none."""
+    leaves = [("all",), ("any",)] + [("feature", name) for name in names] * 3
+    word = source.choice(("feature", "not", "all", "any"))
+    if depth == 1 or word == "feature":
+        return source.choice(leaves)
+    many = 1 if word == "not" else source.randrange(4)
+    return (word, *(random_formula(source, names, depth - 1) for _ in range(many)))
+
+
+def holds_by_definition(formula, features):
+    word, *parts = formula
+    if word == "feature":
+        return parts[0] in features
+    answers = [holds_by_definition(part, features) for part in parts]
+    return {"not": answers[:1] == [False], "all": False not in answers, "any": True in answers}[word]
+
+
+EIGHT = ("a", "b", "c", "d", "e", "f", "g", "h")
+TWELVE_ITEMS = ("a", "aa", "ab", "b", "ba", "c", "lock", "panic", "vec", "x", "y", "zzzzzzzz")
+
+
+def random_library(source, manifest, items):
+    """A library with these items, each of 1 to 6 rows with few versions, so that some are equal."""
+    names = features_in(manifest)
+    return (manifest, tuple(
+        (item, tuple((random_formula(source, names, 1 + source.randrange(4)), source.choice((0, 1, 1, 2, 99)))
+                     for _ in range(source.choice((1, 1, 2, 3, 6)))))
+        for item in items))
+
+
+def exactly(names, subset):
+    """A formula that holds for just this subset of the names."""
+    parts = [("feature", name) if name in subset else ("not", ("feature", name)) for name in names]
+    return ("all", *parts)
+
+
+def library_with(manifest, tables):
+    """The library whose items have at each set of features the version that stands in their tables (None: absent)."""
+    names = features_in(manifest)
+    items = []
+    for item, seen in sorted(tables.items()):
+        some = sorted(set(seen.values()) - {None}) or [7]
+        items.append((item, tuple(
+            (("any", *(exactly(names, subset) for subset in seen if seen[subset] == version)), version)
+            for version in some)))
+    return (manifest, tuple(items))
+
+
+def one_item_libraries(manifest, versions):
+    """All libraries of a manifest with one item, told apart by its version at each set of features."""
+    subsets = all_subsets(features_in(manifest))
+    return [library_with(manifest, {"x": dict(zip(subsets, chosen))})
+            for chosen in itertools.product(versions, repeat=len(subsets))]
+
+
+def random_table_library(source, manifest, items):
+    subsets = all_subsets(features_in(manifest))
+    return library_with(manifest, {item: {subset: source.choice((None, 1, 1, 2)) for subset in subsets}
+                                   for item in items})
+
+
+def random_additive_library(source, manifest, items):
+    """A library whose items have one version each and formulas without not."""
+    names = features_in(manifest)
+
+    def part():
+        return ("all", *(("feature", name) for name in names if source.randrange(3) == 0))
+
+    return (manifest, tuple((item, ((("any", part(), part()), source.randrange(100)),)) for item in items))
+
+
+def gone_with(*features):
+    """Rows of an item that is gone where all these features are."""
+    return ((("not", ("all", *(("feature", feature) for feature in features))), 1),)
+
+
+def random_fragile_library(source, manifest, items):
+    """A library whose items are there until two or three features come together."""
+    names = features_in(manifest)
+    return (manifest, tuple((item, gone_with(*source.sample(names, source.choice((2, 3))))) for item in items))
+
+
+def random_manifest(source, size):
+    names = EIGHT[:size]
+    made = chosen_manifests(names, 4, source.randrange(1000))
+    return source.choice(made + [without_implied(names)] * 2)
+
+
+def small_libraries():
+    """All libraries of one item and at most two features, and some of three features and several items."""
+    found = one_item_libraries((), (None, 1)) + one_item_libraries((("a", ()),), (None, 1, 2))
+    for manifest in manifests_of(("a", "b")):
+        found += one_item_libraries(manifest, (None, 1, 2))
+    source = random.Random(20)
+    for manifest in manifests_of(("a", "b", "c")):
+        found.append(random_table_library(source, manifest, ("x",)))
+        found.append(random_table_library(source, manifest, ("x", "y")))
+        found.append(random_library(source, manifest, ("w", "x", "y")))
+        found.append(random_additive_library(source, manifest, ("x", "y")))
+    return found
+
+
+def libraries_of_all_sizes(seed):
+    """Random libraries of none to eight features and none to twelve items."""
+    source = random.Random(seed)
+    found = []
+    for size in range(9):
+        for many in (0, 1, 2, 5, 12):
+            found.append(random_library(source, random_manifest(source, size), TWELVE_ITEMS[:many]))
+        found.append(random_additive_library(source, random_manifest(source, size), TWELVE_ITEMS))
+        if size > 2:
+            found.append(random_fragile_library(source, without_implied(EIGHT[:size]), TWELVE_ITEMS[:3]))
+            found.append(random_fragile_library(source, random_manifest(source, size), TWELVE_ITEMS))
+    rings = [ring(EIGHT[:size]) for size in (2, 3, 5)] + [chain_up(EIGHT[:6]), chain_down(EIGHT[:6])]
+    return found + [random_library(source, manifest, TWELVE_ITEMS[::2]) for manifest in rings]
+
+
+class Answers:
+    """What the definitions say of a library, worked out from its rows by trying all requests."""
+
+    def __init__(self, library):
+        self.manifest, self.items = library
+        self.features = features_in(self.manifest)
+        self.requests = all_subsets(self.features)
+        self.closed = closed_by_trying(self.manifest)
+        self.closures = {request: self.least_closed(request) for request in self.requests}
+        self.views = {closed: self.pairs_at(closed) for closed in self.closed}
+
+    def least_closed(self, request):
+        return next(closed for closed in self.closed if set(request) <= set(closed))
+
+    def pairs_at(self, closed):
+        found = []
+        for item, rows in self.items:
+            holding = [version for formula, version in rows if holds_by_definition(formula, closed)]
+            found += [(item, version) for version in holding[:1]]
+        return tuple(found)
+
+    def closure(self, *requests):
+        return self.closures[tuple(sorted(set().union(*requests)))]
+
+    def view(self, *requests):
+        """The view at these requests together."""
+        return self.views[self.closure(*requests)]
+
+    def lost(self, request, more):
+        return tuple(pair for pair in self.view(request) if pair not in self.view(request, more))
+
+    def breaking_steps(self):
+        found = []
+        for closed, feature in itertools.product(self.closed, self.features):
+            before, after = dict(self.view(closed)), dict(self.view(closed, (feature,)))
+            if feature not in closed:
+                found += [(closed, feature, item) for item in before if before[item] != after.get(item)]
+        return tuple(sorted(found, key=lambda step: (len(step[0]), step)))
+
+    def losses(self, users):
+        there = dict(self.view(*(request for _, request, _ in users)))
+        found = []
+        for name, request, items in users:
+            own = dict(self.view(request))
+            found += [(name, item) for item in items if there.get(item) != own[item]]
+        return tuple(sorted(found))
+
+    def random_users(self, source, names):
+        """Users with these names, some of which rely on much and ask for little."""
+        found = []
+        for name in names:
+            request = tuple(feature for feature in self.features if source.randrange(3) == 0)
+            seen = [item for item, _ in self.view(request)]
+            share = source.choice((0, 1, 2, 4))
+            found.append((name, request, tuple(item for item in seen if source.randrange(4) < share)))
+        return tuple(found)

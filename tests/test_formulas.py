@@ -3,7 +3,7 @@ import random
 import unittest
 
 from featureunion.formulas import features_of, holds, is_formula, is_name, is_positive
-from support import all_subsets, builtin_things, deep_things, other_things, wrapped
+from support import all_subsets, builtin_things, deep_things, other_things, random_formula, wrapped
 
 A, B, C = ("feature", "a"), ("feature", "b"), ("feature", "c")
 LEAVES = [A, ("feature", "abcdefgh"), ("all",), ("any",)]
@@ -61,16 +61,6 @@ def where_it_holds(formula, subsets):
     if formula[0] == "all":
         return set(subsets).intersection(*parts)
     return set().union(*parts)
-
-
-def random_formula(source, names, depth):
-    word = source.choice(("feature", "not", "all", "any"))
-    if depth == 1 and word != "feature":
-        return source.choice((("all",), ("any",), ("feature", source.choice(names))))
-    if word == "feature":
-        return ("feature", source.choice(names))
-    many = 1 if word == "not" else source.randrange(4)
-    return (word, *(random_formula(source, names, depth - 1) for _ in range(many)))
 
 
 def small_formulas():

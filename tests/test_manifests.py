@@ -3,11 +3,10 @@ import unittest
 from featureunion.errors import BadRequest
 from featureunion.manifests import closed_requests, closure, is_manifest, is_request, least_requests
 from support import (
-    all_subsets, builtin_things, chain_down, chain_up, chosen_manifests, closed_by_trying, closure_by_trying,
-    deep_things, features_in, manifests_of, other_things, ring, without_implied,
+    EIGHT, all_subsets, builtin_things, chain_down, chain_up, chosen_manifests, closed_by_trying, closure_by_trying,
+    deep_things, features_in, manifests_of, no_requests, other_things, ring, without_implied,
 )
 
-EIGHT = ("a", "b", "c", "d", "e", "f", "g", "h")
 NINE = EIGHT + ("i",)
 LONG = ("a", "aa", "ab", "b", "ba", "bb", "bbb", "zzzzzzzz")
 STD = (("alloc", ()), ("nostd", ()), ("std", ("alloc",)))
@@ -27,19 +26,6 @@ def small_manifests():
 def large_manifests():
     found = [chain_up(EIGHT), chain_down(EIGHT), ring(EIGHT), without_implied(EIGHT), without_implied(LONG)]
     return found + [ring(LONG), chain_up(LONG)] + chosen_manifests(EIGHT, 8, 9)
-
-
-def no_requests():
-    """Things that are no requests of a manifest with the features a, b and c, of any kind."""
-    return other_things() + deep_things(30) + [
-        "a", "ab", "abc", ["a"], ["a", "b"], [], {"a": 1}, {"a"}, b"a",
-        ("b", "a"), ("a", "c", "b"), ("c", "b", "a"), ("b", "c", "a"),
-        ("a", "a"), ("a", "b", "b"), ("a", "a", "b"), ("a", "b", "a"),
-        ("d",), ("a", "d"), ("a", "b", "c", "d"), ("aa",), ("A",), ("a", "aa", "b"), ("",), ("a ",), ("a\n",),
-        ("ab",), ("a,b",), (("a",),), ("a", ("b",)), (["a"],), ("a", ["b"]), ("a", {"b": 1}), ("a", {"b"}),
-        ("a", None), (None, "a"), (1,), ("a", 1), (0, "a"), (True,), ("a", True), (b"a",), ("a", b"b"),
-        (("a", ()),), (("a", ()), ("b", ()), ("c", ())), ((),), ("a", ()),
-    ]
 
 
 def least_by_trying(manifest, request):
