@@ -24,6 +24,11 @@ def features_in(manifest):
     return tuple([pair[0] for pair in manifest])
 
 
+def is_within(request, other):
+    """Return whether another request contains this one."""
+    return all([feature in other for feature in request])
+
+
 def can_imply(features, feature, implied):
     """Return, of anything as implied, whether a feature among these features can imply it."""
     if not are_ascending_names(implied):
@@ -71,12 +76,17 @@ def closure(manifest, request):
     return closed_over(manifest, request)
 
 
+def place_of(request):
+    """Return what decides where a request stands in the order: its number of features, then itself."""
+    return (len(request), request)
+
+
 def subsets_of(names):
     """Return the list of all ascending tuples of names among ascending ones, by their length, then ascending."""
     found = [()]
     for name in names:
         found = found + [subset + (name,) for subset in found]
-    return sorted(found, key=lambda subset: (len(subset), subset))
+    return sorted(found, key=place_of)
 
 
 def all_requests(manifest):
@@ -87,6 +97,16 @@ def all_requests(manifest):
 def closed_requests(manifest):
     """Return all closed requests, in their order."""
     return tuple([request for request in all_requests(manifest) if closed_over(manifest, request) == request])
+
+
+def least_among(requests):
+    """Return the list of those among different requests, in their order, that contain no other one of them."""
+    least = []
+    # A request stands behind all that it can contain, so that only those found before it matter.
+    for request in sorted(requests, key=place_of):
+        if not any([is_within(other, request) for other in least]):
+            least.append(request)
+    return least
 
 
 def least_requests(manifest, request):

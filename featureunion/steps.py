@@ -2,7 +2,7 @@
 
 from featureunion.errors import BadRequest
 from featureunion.libraries import all_views, gone_pairs
-from featureunion.manifests import all_requests, closed_over, features_in, is_request
+from featureunion.manifests import all_requests, closed_over, features_in, is_request, is_within
 
 
 def broken_items(manifest, views, request, feature):
@@ -31,7 +31,7 @@ def is_additive_above(library, request):
     if not is_request(library[0], request):
         raise BadRequest(request)
     starts = [step[0] for step in breaking_steps(library)]
-    return not any([all([feature in start for feature in request]) for start in starts])
+    return not any([is_within(request, start) for start in starts])
 
 
 def breaking_pair(library):

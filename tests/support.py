@@ -369,3 +369,94 @@ class Answers:
             share = source.choice((0, 1, 2, 4))
             found.append((name, request, tuple(item for item in seen if source.randrange(4) < share)))
         return tuple(found)
+
+
+A, B, C = ("feature", "a"), ("feature", "b"), ("feature", "c")
+ALWAYS, NEVER = ("all",), ("any",)
+STD_FEATURE, ALLOC = ("feature", "std"), ("feature", "alloc")
+STD = ((("alloc", ()), ("nostd", ()), ("std", ("alloc",))), (
+    ("lock", ((STD_FEATURE, 2), (ALLOC, 1))), ("panic", ((("not", STD_FEATURE), 1),)), ("vec", ((ALLOC, 1),))))
+STD_USERS = (("p", ("alloc",), ("lock",)), ("q", ("std",), ("vec",)), ("r", (), ("panic",)))
+ABC = without_implied(("a", "b", "c"))
+# At a: w, x; without a: x, y; z is never seen.
+SEEN = (ABC, (("w", ((A, 1),)), ("x", ((A, 2), (ALWAYS, 1))), ("y", ((("not", A), 1),)), ("z", ((NEVER, 1),))))
+EIGHT_USERS = ("a", "aa", "b", "bob", "c", "lock", "p", "zzzzzzzz")
+
+
+def names_of(users):
+    return tuple(user[0] for user in users)
+
+
+def no_users():
+    """Things that are no users of the library SEEN, of any kind."""
+    good = (("p", ("a",), ("w",)), ("q", (), ("x",)))
+    return other_things() + deep_things(30) + with_one_list(good) + [
+        good[::-1], good[:1] * 2, good[0], "p", [], {"p": (("a",), ("w",))}, (("p",),), (("p", ()),),
+        (("p", (), (), ()),), (("P", (), ()),), (("p", ("d",), ()),), (("p", ("b", "a"), ()),), (("p", "", ()),),
+        (("p", (), ("w",)),), (("p", ("a",), ("y",)),), (("p", (), ("y", "x")),), (("p", (), ("x", "x")),),
+        (("p", (), ("none",)),), (("p", (), "x"),), tuple((name, (), ()) for name in "abcdefghi"),
+    ]
+
+
+def no_names():
+    """Things that are no names of the users p and q, of any kind."""
+    return other_things() + deep_things(30) + [
+        "r", "", "P", "pp", "p ", "pq", b"p", ("p",), ["p"], {"p"}, {"p": 1}, ("p", "q"), ("p", (), ()), None, 0,
+        True, (),
+    ]
+
+
+def libraries_and_users(seed, many):
+    """Libraries of all sizes, their answers, and users of them: none to eight."""
+    source = random.Random(seed)
+    for library in libraries_of_all_sizes(seed):
+        answers = Answers(library)
+        for _ in range(many):
+            yield library, answers, answers.random_users(source, EIGHT_USERS[:source.randrange(9)])
+
+
+def partitions_of(names):
+    """All partitions of ascending names into ascending groups, each partition ascending."""
+    if not names:
+        return [()]
+    found = []
+    for others in all_subsets(names[1:]):
+        rest = tuple(name for name in names[1:] if name not in others)
+        found += [((names[0],) + others,) + groups for groups in partitions_of(rest)]
+    return found
+
+
+def splits_by_trying(answers, users):
+    """All partitions of users into harmless groups, by their number of groups, then ascending."""
+    by_name = {user[0]: user for user in users}
+    harmless = {names for names in all_subsets(tuple(by_name))
+                if not answers.losses([by_name[name] for name in names])}
+    found = [groups for groups in partitions_of(names_of(users)) if harmless.issuperset(groups)]
+    return sorted(found, key=lambda groups: (len(groups), groups))
+
+
+def grounds_by_trying(answers):
+    """The items that are ever seen, with their version and the least closed requests at which they are seen."""
+    found = []
+    for item, _ in answers.items:
+        seen = {closed: dict(answers.view(closed))[item] for closed in answers.closed
+                if item in dict(answers.view(closed))}
+        least = tuple(closed for closed in seen if not any(set(other) < set(closed) for other in seen))
+        found += [(item, version, least) for version in sorted(set(seen.values()))]
+    return tuple(found)
+
+
+def additive_libraries(seed):
+    """Additive libraries of none to eight features: some of formulas without not, and small ones of all kinds."""
+    source = random.Random(seed)
+
+    def rows(names):
+        requests = [[("feature", name) for name in names if source.randrange(2)] for _ in range(source.randrange(9))]
+        return ((("any", *(("all", *parts) for parts in requests)), source.randrange(100)),)
+
+    found = []
+    for size in range(9):
+        for many in (0, 1, 5, 12):
+            manifest = random_manifest(source, size)
+            found.append((manifest, tuple((item, rows(features_in(manifest))) for item in TWELVE_ITEMS[:many])))
+    return found + [library for library in small_libraries() if not Answers(library).breaking_steps()]

@@ -6,45 +6,13 @@ from featureunion.errors import BadUsers, UnknownUser
 from featureunion.groups import is_clashing, is_users, losses, smallest_harmful, stranger, united
 from featureunion.steps import breaking_pair, is_additive, safe_features
 from support import (
-    Answers, EIGHT, TWELVE_ITEMS, all_subsets, builtin_things, chain_down, chain_up, deep_things, gone_with,
-    libraries_of_all_sizes, no_requests, other_things, random_additive_library, random_library, random_manifest, ring,
-    small_libraries, with_one_list, with_one_other, without_implied,
+    A, ABC, ALWAYS, Answers, B, C, EIGHT, EIGHT_USERS, SEEN, STD, STD_USERS, TWELVE_ITEMS, all_subsets,
+    builtin_things, chain_down, chain_up, deep_things, gone_with, libraries_and_users, libraries_of_all_sizes,
+    names_of, no_names, no_requests, no_users, other_things, random_additive_library, random_library, random_manifest,
+    ring, small_libraries, with_one_list, with_one_other, without_implied,
 )
 
-A, B, C = ("feature", "a"), ("feature", "b"), ("feature", "c")
-ALWAYS, NEVER = ("all",), ("any",)
-STD_FEATURE, ALLOC = ("feature", "std"), ("feature", "alloc")
-STD = ((("alloc", ()), ("nostd", ()), ("std", ("alloc",))), (
-    ("lock", ((STD_FEATURE, 2), (ALLOC, 1))), ("panic", ((("not", STD_FEATURE), 1),)), ("vec", ((ALLOC, 1),))))
-STD_USERS = (("p", ("alloc",), ("lock",)), ("q", ("std",), ("vec",)), ("r", (), ("panic",)))
-ABC = without_implied(("a", "b", "c"))
-# At a: w, x; without a: x, y; z is never seen.
-SEEN = (ABC, (("w", ((A, 1),)), ("x", ((A, 2), (ALWAYS, 1))), ("y", ((("not", A), 1),)), ("z", ((NEVER, 1),))))
-EIGHT_USERS = ("a", "aa", "b", "bob", "c", "lock", "p", "zzzzzzzz")
 FUNCTIONS = (united, losses, smallest_harmful, stranger)
-
-
-def names_of(users):
-    return tuple(user[0] for user in users)
-
-
-def no_users():
-    """Things that are no users of the library SEEN, of any kind."""
-    good = (("p", ("a",), ("w",)), ("q", (), ("x",)))
-    return other_things() + deep_things(30) + with_one_list(good) + [
-        good[::-1], good[:1] * 2, good[0], "p", [], {"p": (("a",), ("w",))}, (("p",),), (("p", ()),),
-        (("p", (), (), ()),), (("P", (), ()),), (("p", ("d",), ()),), (("p", ("b", "a"), ()),), (("p", "", ()),),
-        (("p", (), ("w",)),), (("p", ("a",), ("y",)),), (("p", (), ("y", "x")),), (("p", (), ("x", "x")),),
-        (("p", (), ("none",)),), (("p", (), "x"),), tuple((name, (), ()) for name in "abcdefghi"),
-    ]
-
-
-def no_names():
-    """Things that are no names of the users p and q, of any kind."""
-    return other_things() + deep_things(30) + [
-        "r", "", "P", "pp", "p ", "pq", b"p", ("p",), ["p"], {"p"}, {"p": 1}, ("p", "q"), ("p", (), ()), None, 0,
-        True, (),
-    ]
 
 
 def harmful_by_trying(answers, users):
@@ -56,15 +24,6 @@ def harmful_by_trying(answers, users):
 def strangers_by_trying(answers, users):
     """All requests with which one more user, who relies on nothing, makes somebody lose something, in their order."""
     return [request for request in answers.requests if answers.losses(users + (("zzzzz", request, ()),))]
-
-
-def libraries_and_users(seed, many):
-    """Libraries of all sizes, their answers, and users of them: none to eight."""
-    source = random.Random(seed)
-    for library in libraries_of_all_sizes(seed):
-        answers = Answers(library)
-        for _ in range(many):
-            yield library, answers, answers.random_users(source, EIGHT_USERS[:source.randrange(9)])
 
 
 class Examples(unittest.TestCase):
