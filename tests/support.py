@@ -2,6 +2,7 @@
 
 import itertools
 import random
+import re
 
 
 class Plain:
@@ -460,3 +461,77 @@ def additive_libraries(seed):
             manifest = random_manifest(source, size)
             found.append((manifest, tuple((item, rows(features_in(manifest))) for item in TWELVE_ITEMS[:many])))
     return found + [library for library in small_libraries() if not Answers(library).breaking_steps()]
+
+
+def formula_by_rules(text):
+    """The formula with this text as the document describes it, None if there is none."""
+    def read(at, depth):
+        """The formula that begins there, how many formulas are in it, and where it ends."""
+        word = re.match("[a-z]*", text[at:at + 20]).group()
+        end = at + len(word)
+        if text[end:end + 1] != "(":
+            return (("feature", word), 1, end) if 1 <= len(word) <= 8 and depth <= 10 else None
+        if word not in ("not", "all", "any") or depth > 10:
+            return None
+        if text[end + 1:end + 2] == ")":
+            return ((word,), 1, end + 2) if word != "not" else None
+        parts, total = [], 1
+        while True:
+            # Behind the bracket, or behind the comma and the blank.
+            found = read(end + 1, depth + 1)
+            if found is None:
+                return None
+            part, many, end = found
+            parts.append(part)
+            total += many
+            if text[end:end + 1] == ")":
+                return ((word, *parts), total, end + 1) if word != "not" or len(parts) == 1 else None
+            if text[end:end + 2] != ", ":
+                return None
+            end += 1
+
+    found = read(0, 1)
+    return found[0] if found is not None and found[1] <= 400 and found[2] == len(text) else None
+
+
+def row_by_rules(row):
+    """What a row says, None if it does not have the form of a row."""
+    name = "[a-z]{1,8}"
+    if re.fullmatch(f"feature( {name})+", row):
+        _, feature, *implied = row.split(" ")
+        return ("feature", feature, tuple(implied))
+    if re.fullmatch(f"item {name}", row):
+        return ("item", row[5:])
+    found = re.fullmatch("(0|[1-9][0-9]?) (.*)", row, re.ASCII)
+    formula = formula_by_rules(found.group(2)) if found else None
+    return None if formula is None else ("guard", formula, int(found.group(1)))
+
+
+def library_by_rules(text):
+    """The library with this text as the document describes it, the number of BadText if there is none."""
+    rows = [row_by_rules(row) for row in text.split("\n")] if text else []
+    if None in rows:
+        return rows.index(None)
+    manifest, items = [], []
+    for kind, *told in rows:
+        if kind == "feature" and not items:
+            manifest.append(tuple(told))
+        elif kind == "item":
+            items.append((told[0], []))
+        elif kind == "guard" and items:
+            items[-1][1].append(tuple(told))
+        else:
+            return len(rows)
+    names = [name for name, _ in manifest]
+    whole = names == sorted(set(names)) and len(names) <= 8
+    whole = whole and all(list(implied) == sorted(set(implied) & set(names) - {name}) for name, implied in manifest)
+    whole = whole and [item for item, _ in items] == sorted({item for item, _ in items}) and len(items) <= 12
+    whole = whole and all(1 <= len(guards) <= 6 for _, guards in items)
+    inner = {name for _, guards in items for formula, _ in guards for name in names_in_formula(formula)}
+    whole = whole and inner <= set(names)
+    return (tuple(manifest), tuple((item, tuple(guards)) for item, guards in items)) if whole else len(rows)
+
+
+def names_in_formula(formula):
+    word, *parts = formula
+    return set(parts) if word == "feature" else set().union(*(names_in_formula(part) for part in parts))
